@@ -1,0 +1,1 @@
+"""Boxfall: players that act on what can be shown of one another."""
