@@ -85,11 +85,11 @@ def items_of(form):
     return items
 
 
-def signs_of(form):
-    """Return the signs of a form, depth first, tuples throughout; BadForm if it is none."""
+def built(items):
+    """Return the signs for items that are told depth first, tuples throughout."""
     signs = []
     made = []
-    for item in items_of(form)[::-1]:
+    for item in items[::-1]:
         many = FORMS_IN[item[0]]
         if many == 0:
             sign = tuple(item)
@@ -100,3 +100,32 @@ def signs_of(form):
         made.append(sign)
         signs.append(sign)
     return signs[::-1]
+
+
+def signs_of(form):
+    """Return the signs of a form, depth first, tuples throughout; BadForm if it is none."""
+    return built(items_of(form))
+
+
+def signs_in(form):
+    """Return the signs of what is known to be a form, or one with the stranger's acts."""
+    signs = []
+    todo = [form]
+    while todo:
+        sign = todo.pop()
+        signs.append(sign)
+        todo.extend([sign[at] for at in range(FORMS_IN[sign[0]], 0, -1)])
+    return signs
+
+
+def named(sign, names):
+    """Return a sign, an act with the names that stand for its words in a dict."""
+    if sign[0] != "act":
+        return sign
+    return ("act", names.get(sign[1], sign[1]), names.get(sign[2], sign[2]))
+
+
+def with_names(signs, me, him):
+    """Return the signs of a form with two names in the place of `me` and `him`."""
+    names = {"me": me, "him": him}
+    return built([named(sign, names) for sign in signs])

@@ -6,7 +6,7 @@ boxes, depth first, as pairs: the first word, and the text of a letter, an
 act or a box, whose truth has to be told (otherwise an empty string).
 """
 
-from boxfall.forms import signs_of
+from boxfall.forms import signs_in
 from boxfall.texts import texts_of
 
 TOLD = ("letter", "act", "box")
@@ -19,32 +19,36 @@ def outline_of(form):
     while todo:
         sign = todo.pop()
         if sign[0] in TOLD:
-            outline.append((sign[0], texts_of(signs_of(sign))[0]))
+            outline.append((sign[0], texts_of(signs_in(sign))[0]))
         else:
             outline.append((sign[0], ""))
             todo.extend(sign[:0:-1])
     return outline
 
 
-def joined(word, one, other):
-    """Return the truth of and, or, if over two truths."""
+def joined(word, one, other, full):
+    """Return the mask of and, or, if over two masks."""
     if word == "and":
-        return one and other
+        return one & other
     if word == "or":
-        return one or other
-    return not one or other
+        return one | other
+    return (full ^ one) | other
 
 
-def truth_of(outline, told):
-    """Return the truth of an outline, given a dict from texts to truths."""
+def mask_of(outline, told, full):
+    """Return the mask of an outline, given a dict from texts to masks.
+
+    A mask is an integer with a bit for each of several cases that are looked
+    at in one go, 1 where something is true; full has all bits.
+    """
     made = []
     for word, text in outline[::-1]:
         if word in TOLD:
             made.append(told[text])
         elif word in ("yes", "no"):
-            made.append(word == "yes")
+            made.append(full if word == "yes" else 0)
         elif word == "not":
-            made.append(not made.pop())
+            made.append(full ^ made.pop())
         else:
-            made.append(joined(word, made.pop(), made.pop()))
+            made.append(joined(word, made.pop(), made.pop(), full))
     return made[0]

@@ -1,8 +1,8 @@
 """Rows: the truths at the levels 0, 1, 2, .. as tuples, the last one for ever."""
 
-from boxfall.errors import NoActs, NoRow
-from boxfall.outlines import outline_of, truth_of
+from boxfall.errors import NoRow
 from boxfall.sayings import no, yes
+from boxfall.walks import WHOLE, levels_of, walk_of
 
 
 def plain(row):
@@ -21,43 +21,19 @@ def height(row):
     return len(shortest) - 1
 
 
-def at_level(row, level):
-    """Return the truth of a row at a level."""
-    return row[min(level, len(row) - 1)]
-
-
-def walk(saying, rows):
-    """Return the truths of a saying up to the level from which on nothing changes.
-
-    That is the first one at which all letters have their last truths and no
-    box falls: the next level is then like it, and so are all behind it.
-    """
-    whole = outline_of(saying.form())
-    inner = {box.text(): outline_of(box.form()[1]) for box in saying.boxes()}
-    standing = {text: True for text in inner}
-    last = max([len(rows[name]) for name in rows], default=1) - 1
-    truths = []
-    while True:
-        level = len(truths)
-        letters = {name: at_level(rows[name], level) for name in rows}
-        told = {**standing, **letters}
-        truths.append(truth_of(whole, told))
-        falling = [text for text in inner if standing[text] and not truth_of(inner[text], told)]
-        if level >= last and not falling:
-            return truths
-        for text in falling:
-            standing[text] = False
+def row_of_text(levels, text):
+    """Return the plain row of what has a text, given what is told at the levels."""
+    return plain([told[text] == 1 for told in levels])
 
 
 def row_of(saying, rows):
     """Return the plain row of a saying; NoActs if it has acts, NoRow for a letter without a row."""
-    if saying.acts():
-        raise NoActs()
-    letters = saying.letters()
-    for name in letters:
+    walk = walk_of(saying)
+    for name in walk.free:
         if name not in rows:
             raise NoRow(name)
-    return plain(walk(saying, {name: rows[name] for name in letters}))
+    levels = levels_of(walk, {name: plain(rows[name]) for name in walk.free})
+    return row_of_text(levels, WHOLE)
 
 
 def below(level):

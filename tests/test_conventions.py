@@ -3,7 +3,10 @@
 import copy
 import unittest
 
-from boxfall.errors import BadForm, BoxError, NoActs, NoRow
+from boxfall.always import alike, always, breach, follows, is_paper, reached
+from boxfall.companies import Company, matches, row_with
+from boxfall.errors import BadForm, BadName, BadRule, BoxError, NoActs, NoPlayer, NoRow
+from boxfall.meetings import boxes_with, meeting, met
 from boxfall.rows import as_saying, height, plain, row_of
 from boxfall.sayings import Saying, act, letter, no, yes
 
@@ -47,6 +50,29 @@ class Arguments(unittest.TestCase):
             self.assertEqual(row_of(+letter("p"), {"p": row}), (True, True, False))
             self.assertEqual(row_of(saying=+letter("p"), rows={"p": row}), (True, True, False))
             self.assertIsInstance(row_of(letter("p"), {"p": row}), tuple)
+
+    def test_always(self):
+        p, loeb = letter("p"), Saying.read("(#(#p > p) > #p)")
+        self.assertEqual(breach(saying=p).rows, {"p": (False,)})
+        self.assertTrue(always(saying=loeb))
+        self.assertTrue(follows(one=no(), other=p))
+        self.assertFalse(follows(other=no(), one=p))
+        self.assertTrue(alike(one=p, other=p))
+        self.assertEqual(reached(saying=+p), [(), (0,)])
+        self.assertTrue(is_paper(saying=loeb, thing=[(), [0, 1]]))
+        self.assertTrue(is_paper(thing=((), [0, 1]), saying=loeb))
+
+    def test_companies(self):
+        company = Company(rules={"amy": Saying.read("(#him-me & #him-bob)"), "bob": no()})
+        self.assertEqual(company.own(name="amy"), [])
+        self.assertIsNone(company.drop(key=("amy", "bob")))
+        self.assertEqual(row_with(company=company, one="amy", other="bob"), (True, False))
+        self.assertEqual(len(matches(company=company)), 4)
+        self.assertEqual(met(company=company, name="amy"), ["amy", "bob"])
+        self.assertEqual(boxes_with(company=company, name="amy"), ["#x-amy", "#x-bob"])
+        for rows in ({"amy": (True,), "bob": [True, False]}, {"amy": [True], "bob": (True, False)}):
+            self.assertEqual(meeting(company=company, name="amy", rows=rows).row, (True, True, False))
+            self.assertEqual(meeting(rows=rows, name="amy", company=company).end, (False, True))
 
     def test_wrong_forms_as_lists(self):
         with self.assertRaises(BadForm) as caught:
@@ -121,6 +147,28 @@ class LaterChanges(unittest.TestCase):
             self.assertEqual(method(), kept)
         self.assertEqual(saying.text(), "((#p & #q) & me-him)")
 
+    def test_what_was_returned_of_all_rows(self):
+        saying = Saying.read("(#p | #q)")
+        found = breach(saying)
+        told = dict(found.rows)
+        found.rows["p"] = None
+        found.rows.clear()
+        self.assertEqual(breach(saying).rows, told)
+        lot = reached(saying)
+        lot.remove(())
+        self.assertEqual(reached(saying), [(), (0,), (0, 1), (1,)])
+
+    def test_what_was_returned_of_companies(self):
+        company = Company({"amy": Saying.read("#him-me"), "bob": no()})
+        company["amy", "al"] = yes()
+        for work in (company.names, lambda: company.own("amy"), lambda: met(company, "amy"), lambda: matches(company),
+                     lambda: boxes_with(company, "amy"), lambda: meeting(company, "amy", {"amy": [False]}).sets):
+            before = work()
+            kept = copy.copy(before)
+            before.clear()
+            self.assertEqual(work(), kept)
+            self.assertTrue(kept)
+
     def test_letters_come_back_when_made_anew(self):
         saying = +letter("p")
         rows = {"p": [False]}
@@ -134,9 +182,34 @@ class FirstError(unittest.TestCase):
         with self.assertRaises(NoActs):
             row_of(Saying.read("(p & me-him)"), {})
 
+    def test_acts_ahead_of_all_else(self):
+        for work in (breach, always, reached):
+            with self.assertRaises(NoActs):
+                work(Saying.read("(p & me-him)"))
+        with self.assertRaises(NoActs):
+            is_paper(act("me", "him"), None)
+
+    def test_names_then_players_then_rules(self):
+        company = Company({"amy": yes()})
+        for key, error in ((("al", "x"), BadName), (("al", "bob"), NoPlayer), (("amy", "bob"), BadRule)):
+            with self.assertRaises(error):
+                company[key] = None
+
+    def test_players_ahead_of_rows(self):
+        company = Company({"amy": Saying.read("#him-bob")})
+        for name, lacking in (("bob", "bob"), ("amy", "bob")):
+            with self.assertRaises(NoPlayer) as caught:
+                meeting(company, name, {})
+            self.assertEqual(caught.exception.name, lacking)
+        company["bob"] = yes()
+        with self.assertRaises(NoRow) as caught:
+            meeting(company, "amy", {"bob": (True,)})
+        self.assertEqual(caught.exception.name, "amy")
+
     def test_errors_are_box_errors(self):
         for work in (lambda: Saying(5), lambda: Saying.read(""), lambda: row_of(letter("p"), {}),
-                     lambda: row_of(act("me", "me"), {})):
+                     lambda: row_of(act("me", "me"), {}), lambda: Company({5: yes()}), lambda: Company({"amy": 5}),
+                     lambda: Company()["amy"], lambda: met(Company(), "amy")):
             with self.assertRaises(BoxError):
                 work()
 

@@ -11,6 +11,9 @@ FOLDER = pathlib.Path(boxfall.__file__).parent
 FUNCTIONS = {
     "boxfall.sayings": ("yes", "no", "letter", "act"),
     "boxfall.rows": ("plain", "height", "row_of", "as_saying"),
+    "boxfall.always": ("breach", "always", "follows", "alike", "reached", "is_paper"),
+    "boxfall.companies": ("row_with", "matches"),
+    "boxfall.meetings": ("met", "boxes_with", "meeting"),
 }
 CLASSES = {
     "boxfall.errors": {"BoxError": (), "BadForm": ("__init__",), "BadText": (), "NoActs": (),
@@ -19,6 +22,10 @@ CLASSES = {
     "boxfall.sayings": {"Saying": ("__init__", "form", "text", "letters", "acts", "boxes",
                                    "is_boxed", "read", "__len__", "__eq__", "__invert__",
                                    "__and__", "__or__", "__rshift__", "__pos__")},
+    "boxfall.always": {"Breach": ()},
+    "boxfall.companies": {"Company": ("__init__", "names", "own", "twin", "drop", "__getitem__",
+                                      "__setitem__", "__contains__", "__len__", "__eq__")},
+    "boxfall.meetings": {"Meeting": ()},
 }
 
 
