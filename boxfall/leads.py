@@ -6,7 +6,7 @@ here.
 """
 
 from boxfall.errors import NoPlayer
-from boxfall.forms import signs_of, with_names
+from boxfall.forms import built, signs_of, with_names
 from boxfall.outlines import outline_of
 from boxfall.walks import Walk, inner_of
 
@@ -61,6 +61,25 @@ def rules_from(company, acts):
     if lacking:
         raise NoPlayer(min(lacking))
     return rules
+
+
+def names_met(rules, players):
+    """Return those with whom the stranger's acts count, ascending, the players themselves always."""
+    acts = [pair for signs in rules.values() for pair in acts_in(signs)]
+    acts.extend([(STRANGER, name) for name in players])
+    return sorted({whom for who, whom in acts if who == STRANGER})
+
+
+def told_as(sign, alike):
+    """Return a sign, an act of the stranger with the name that stands for its WHOM in a dict."""
+    if sign[0] != "act" or sign[1] != STRANGER:
+        return sign
+    return ("act", STRANGER, alike.get(sign[2], sign[2]))
+
+
+def rules_told_as(rules, alike):
+    """Return rules in which acts of the stranger with some names are told as its acts with others, by a dict."""
+    return {act: built([told_as(sign, alike) for sign in rules[act]]) for act in rules}
 
 
 def walk_by(rules, free):

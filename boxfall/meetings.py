@@ -1,7 +1,7 @@
 """Meetings of players with the stranger."""
 
 from boxfall.errors import NoRow
-from boxfall.leads import STRANGER, act_text, acts_in, check_players, rules_from, walk_by
+from boxfall.leads import STRANGER, act_text, check_players, names_met, rules_from, walk_by
 from boxfall.rows import plain, row_of_text
 from boxfall.walks import inner_of, levels_of
 
@@ -21,12 +21,6 @@ def rules_met(company, name):
     return rules_from(company, [(name, STRANGER)])
 
 
-def names_met(rules, name):
-    """Return those with whom the stranger's acts count, ascending, the player itself always."""
-    acts = [pair for signs in rules.values() for pair in acts_in(signs)]
-    return sorted({whom for who, whom in acts + [(STRANGER, name)] if who == STRANGER})
-
-
 def fallen_in(told, boxes):
     """Return the set of fallen boxes, given the list of the boxes' texts."""
     return tuple([place for place, text in enumerate(boxes) if not told[text]])
@@ -34,7 +28,7 @@ def fallen_in(told, boxes):
 
 def met(company, name):
     """Return those with whom the stranger's acts count where a player meets it, ascending."""
-    return names_met(rules_met(company, name), name)
+    return names_met(rules_met(company, name), [name])
 
 
 def boxes_with(company, name):
@@ -45,7 +39,7 @@ def boxes_with(company, name):
 def meeting(company, name, rows):
     """Return the Meeting for rows of the stranger's acts; NoPlayer, then NoRow for the least without a row."""
     rules = rules_met(company, name)
-    names = names_met(rules, name)
+    names = names_met(rules, [name])
     for one in names:
         if one not in rows:
             raise NoRow(one)

@@ -5,10 +5,14 @@ import unittest
 
 from boxfall.always import alike, always, breach, follows, is_paper, reached
 from boxfall.companies import Company, matches, row_with
-from boxfall.errors import BadForm, BadName, BadRule, BoxError, NoActs, NoPlayer, NoRow
+from boxfall.comparing import best_players, best_row, joint_ends, never_worse, parting, stands_for
+from boxfall.errors import BadForm, BadName, BadRule, BadTruth, BoxError, NoActs, NoPlayer, NoRow
+from boxfall.led import Led
 from boxfall.meetings import boxes_with, meeting, met
+from boxfall.mending import changes, mends
 from boxfall.rows import as_saying, height, plain, row_of
 from boxfall.sayings import Saying, act, letter, no, yes
+from boxfall.strangers import can_wait, ends, falls, is_safe, is_shield, reached_with
 
 FORM = ("and", ("box", ("if", ("letter", "p"), ("yes",))), ("not", ("act", "me", "him")))
 AS_LISTS = ["and", ["box", ["if", ["letter", "p"], ["yes"]]], ["not", ["act", "me", "him"]]]
@@ -73,6 +77,41 @@ class Arguments(unittest.TestCase):
         for rows in ({"amy": (True,), "bob": [True, False]}, {"amy": [True], "bob": (True, False)}):
             self.assertEqual(meeting(company=company, name="amy", rows=rows).row, (True, True, False))
             self.assertEqual(meeting(rows=rows, name="amy", company=company).end, (False, True))
+
+    def test_strangers(self):
+        company = Company({"amy": Saying.read("#him-me")})
+        for work, told in ((ends, {(False, False): {"amy": (False,)}, (False, True): {"amy": (False, True)},
+                                   (True, True): {"amy": (True,)}}),
+                           (is_safe, True), (reached_with, [(), (0,)]), (falls, 1), (can_wait, True)):
+            self.assertEqual(work(company, "amy"), told)
+            self.assertEqual(work(company=company, name="amy"), told)
+            self.assertEqual(work(name="amy", company=company), told)
+        for end in ((True, False), [True, False]):
+            for thing in ([(), (0,)], ((), [0]), [[], [0]]):
+                self.assertTrue(is_shield(company, "amy", end, thing))
+                self.assertTrue(is_shield(thing=thing, end=end, name="amy", company=company))
+
+    def test_comparing(self):
+        company = Company({"amy": Saying.read("#him-me"), "bob": yes()})
+        self.assertEqual(parting(company, "amy", "bob").pair, (False, True))
+        self.assertEqual(parting(other="amy", one="bob", company=company).pair, (True, False))
+        self.assertFalse(stands_for(company=company, one="amy", other="bob"))
+        for worth in ((1, 3, 0, 2), [1, 3, 0, 2]):
+            self.assertEqual(never_worse(company, "bob", "amy", worth), {"amy": (False,)})
+            self.assertIsNone(never_worse(worth=worth, other="bob", one="amy", company=company))
+            self.assertEqual(best_players(worth=worth, company=company), ["amy"])
+            for names in (("amy", "bob"), ["amy", "bob"]):
+                self.assertEqual(best_row(company, names, worth), (4, (False,)))
+                self.assertEqual(best_row(worth=worth, names=names, company=company), (4, (False,)))
+                self.assertEqual(len(joint_ends(names=names, company=company)), 3)
+
+    def test_mending_and_led(self):
+        company = Company({"amy": Saying.read("#yes")})
+        self.assertEqual(len(changes(rule=company["amy"])), 4)
+        self.assertEqual(mends(name="amy", company=company), mends(company, "amy"))
+        led = Led(name="amy", company=company)
+        self.assertTrue(led.go(truths={"amy": False}))
+        self.assertEqual(led.trial(work=lambda told: told.level), 1)
 
     def test_wrong_forms_as_lists(self):
         with self.assertRaises(BadForm) as caught:
@@ -169,6 +208,36 @@ class LaterChanges(unittest.TestCase):
             self.assertEqual(work(), kept)
             self.assertTrue(kept)
 
+    def test_what_was_returned_of_strangers(self):
+        company = Company({"amy": Saying.read("(#him-me & #him-bob)"), "bob": yes(), "al": Saying.read("#yes")})
+        worth = (1, 3, 0, 2)
+        for work in (lambda: ends(company, "amy"), lambda: ends(company, "amy")[False, False],
+                     lambda: reached_with(company, "amy"), lambda: parting(company, "amy", "bob").rows,
+                     lambda: never_worse(company, "bob", "amy", worth), lambda: best_players(company, worth),
+                     lambda: joint_ends(company, ["amy", "bob"]), lambda: changes(company["amy"]),
+                     lambda: mends(company, "al")):
+            before = work()
+            kept = copy.copy(before)
+            self.assertTrue(kept)
+            before.clear()
+            self.assertEqual(work(), kept)
+
+    def test_what_was_passed_to_strangers(self):
+        company = Company({"amy": Saying.read("(#him-me & #him-bob)"), "bob": yes()})
+        twin = company.twin()
+        things = [["amy", "bob"], [1, 3, 0, 2], [True, False], [[], [0], [1], [0, 1]]]
+        kept_things = copy.deepcopy(things)
+        names, worth, end, lot = things
+        told = [joint_ends(company, names), best_row(company, names, worth), never_worse(company, "bob", "amy", worth),
+                is_shield(company, "amy", end, lot)]
+        kept = copy.deepcopy(told)
+        self.assertEqual(things, kept_things)
+        self.assertEqual(company, twin)
+        for thing in things:
+            thing.clear()
+        company.drop("bob")
+        self.assertEqual(told, kept)
+
     def test_letters_come_back_when_made_anew(self):
         saying = +letter("p")
         rows = {"p": [False]}
@@ -205,6 +274,22 @@ class FirstError(unittest.TestCase):
         with self.assertRaises(NoRow) as caught:
             meeting(company, "amy", {"bob": (True,)})
         self.assertEqual(caught.exception.name, "amy")
+
+    def test_rows_ahead_of_truths(self):
+        led = Led(Company({"amy": Saying.read("#him-bob"), "bob": yes()}), "amy")
+        for truths, error, name in (({}, NoRow, "amy"), ({"amy": 5}, NoRow, "bob"),
+                                    ({"amy": 5, "bob": 5}, BadTruth, "amy"),
+                                    ({"amy": True, "bob": 5}, BadTruth, "bob")):
+            with self.assertRaises(error) as caught:
+                led.go(truths)
+            self.assertEqual(caught.exception.name, name)
+
+    def test_players_ahead_of_lots(self):
+        company = Company({"amy": Saying.read("#him-bob")})
+        for name in ("amy", "bob"):
+            with self.assertRaises(NoPlayer) as caught:
+                is_shield(company, name, (True, False), None)
+            self.assertEqual(caught.exception.name, "bob")
 
     def test_errors_are_box_errors(self):
         for work in (lambda: Saying(5), lambda: Saying.read(""), lambda: row_of(letter("p"), {}),
