@@ -151,8 +151,7 @@ class Mends(unittest.TestCase):
 
     def test_a_change_leads_to_a_name_that_is_no_player(self):
         # As it is, bob's rule for amy does not count; where amy's says `him-me`, it does by amy's act with bob.
-        company = of_texts(amy="((#me-bob | yes) & (#him-me & #yes))", bob="no")
-        company["amy"] = read("((#me-bob | yes) & #yes)")
+        company = of_texts(amy="((#me-bob | yes) & #yes)", bob="no")
         company["bob", "amy"] = read("#(ghost-me | yes)")
         self.assertEqual(boxes_with(company, "amy"), ["#amy-bob", "#yes"])
         self.check(company, "amy", [])
